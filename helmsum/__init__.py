@@ -1,0 +1,1 @@
+"""Helmsum: rows of exact numbers moved by sums, steered, seen and set to rest."""
