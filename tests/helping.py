@@ -88,6 +88,14 @@ def some_grid(chance, many, wide, most):
     return [some_row(chance, wide, most) for place in range(many)]
 
 
+def some_parts(chance, states, ins, outs, most):
+    """What a System of these sizes is made of: move, put, look."""
+    return (
+        some_grid(chance, states, states, most), some_grid(chance, ins, states, most),
+        some_grid(chance, outs, states, most),
+    )
+
+
 def check_number(case, thing):
     case.assertIs(type(thing), tuple)
     case.assertEqual([type(part) for part in thing], [int, int])

@@ -5,19 +5,12 @@ from helmsum.errors import NoThing, TooMany, Wrong
 from helmsum.systems import System
 
 from helping import (
-    NO_NUMBERS, STRANGE, check_row, dot, fields, is_system, lists_in, plain, row_as, row_of, some_grid, some_row, told,
-    value,
+    NO_NUMBERS, STRANGE, check_row, dot, fields, lists_in, plain, row_as, row_of, some_grid, some_parts, some_row,
+    told, value,
 )
 
 GREAT = 10 ** 6
 SIZES = [(0, 0, 0), (0, 1, 1), (0, 4, 4), (1, 0, 0), (1, 1, 1), (2, 1, 3), (3, 4, 0), (4, 0, 4), (8, 4, 4)]
-
-
-def some_parts(chance, states, ins, outs, most):
-    return (
-        some_grid(chance, states, states, most), some_grid(chance, ins, states, most),
-        some_grid(chance, outs, states, most),
-    )
 
 
 def next_state(parts, state, puts):
@@ -187,7 +180,6 @@ class Turned(unittest.TestCase):
             move, put, look = some_parts(chance, states, ins, outs, GREAT)
             system = System(move, put, look)
             turned = told(self, system.turned)
-            self.assertTrue(is_system(turned))
             self.assertIsInstance(turned, System)
             expected = [[line[place] for line in move] for place in range(states)]
             self.assertEqual(fields(turned), [expected, look, put, states, outs, ins])
