@@ -22,3 +22,16 @@ def grid_times(one, other, wide):
 def unit_grid(many):
     """The grid of so many unit rows, the 1 at place i in row i."""
     return [unit_row(many, at) for at in range(many)]
+
+
+def flat(lists):
+    """What is in the lists, in one list."""
+    joined = []
+    for each in lists:
+        joined.extend(each)
+    return joined
+
+
+def cut(row, many, wide):
+    """The row, of many times wide numbers, cut into so many rows of wide numbers."""
+    return [row[turn * wide:(turn + 1) * wide] for turn in range(many)]

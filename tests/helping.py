@@ -3,6 +3,10 @@
 import math
 from fractions import Fraction
 
+from helmsum.equations import inverse
+from helmsum.grids import grid_on, grid_times
+from helmsum.systems import System
+
 STRANGE = [
     None, True, False, 0, 3, -1, 1.5, float("nan"), "", "text", b"ab", [], (), {}, set(), object(), int, len,
     [1], (1,), (1, 1), [(1, 1)], [[(1, 1)]], {0: 1}, range(3), Fraction(1, 2), 1 + 2j,
@@ -13,6 +17,10 @@ NO_NUMBERS = [
     (1, -2), (-1, -2), (0, -1), (True, 1), (1, True), (False, 1), (1.0, 1), (1, 1.0), ("1", 1), (None, 1), (1, None),
     ([1], 1), ((1, 1), 1), (1, (1, 1)), Fraction(1, 2), {1: 1, 2: 1}, object(),
 ]
+
+# The sizes (states, ins, outs) of systems, and (states, ins, steered) of those of which not all can be steered.
+SIZES = [(0, 0, 0), (0, 2, 1), (1, 0, 1), (1, 1, 0), (2, 1, 1), (3, 2, 4), (5, 1, 0), (6, 3, 1), (8, 1, 1), (8, 4, 4)]
+BOUND = [(2, 1, 1), (3, 1, 2), (4, 2, 0), (5, 1, 3), (6, 2, 5), (8, 1, 3), (8, 3, 4)]
 
 
 def value(number):
@@ -94,6 +102,86 @@ def some_parts(chance, states, ins, outs, most):
         some_grid(chance, states, states, most), some_grid(chance, ins, states, most),
         some_grid(chance, outs, states, most),
     )
+
+
+def some_system(chance, states, ins, outs, most):
+    return System(*some_parts(chance, states, ins, outs, most))
+
+
+def some_basis(chance, many):
+    """A grid of small numbers that has an inverse."""
+    while True:
+        basis = [[(chance.randint(-2, 2), 1) for place in range(many)] for row in range(many)]
+        if inverse(basis) is not None:
+            return basis
+
+
+def bound_system(chance, states, ins, outs, steered, most):
+    """A System of which at most so many numbers can be steered, though no place of its state shows it."""
+    move, put, look = some_parts(chance, states, ins, outs, most)
+    for place in range(steered, states):
+        move[place] = row_of(*[0] * steered) + move[place][steered:]
+        for row in put:
+            row[place] = (0, 1)
+    basis = some_basis(chance, states)
+    move = grid_times(grid_times(basis, move, states), inverse(basis), states)
+    return System(move, [grid_on(basis, row) for row in put], look)
+
+
+def some_systems(chance):
+    """Systems of all sorts: all of whose states are come to, some, and none but rest."""
+    systems = [some_system(chance, *sizes, most) for sizes in SIZES for most in [1, 4]]
+    systems += [bound_system(chance, states, ins, 1, steered, 3) for states, ins, steered in BOUND]
+    systems.append(System([row_of(0, 1, 0), row_of(0, 0, 1), row_of(0, 0, 0)], [row_of(0, 0, 1)], []))
+    systems.append(System([row_of(2, 0), row_of(0, 2)], [row_of(1, 1), row_of(2, 2)], [row_of(1, 0)]))
+    systems.append(System([row_of(1, 1), row_of(0, 1)], [row_of(0, 0)], []))
+    systems.append(System([row_of(1, 1), row_of(0, 1)], [], []))
+    return systems
+
+
+def nothing(system, steps):
+    """So many rows of puts that are noughts."""
+    return [row_of(*[0] * system.ins) for step in range(steps)]
+
+
+def rest(system):
+    return row_of(*[0] * system.states)
+
+
+def in_span(rows, wide, row):
+    """Whether the row is in the span, reckoned with fractions."""
+    return len(reduced_by_fractions(rows + [row], wide)) == len(reduced_by_fractions(rows, wide))
+
+
+def over_move(system, row):
+    """The row taken over move: at place j its dot with the numbers at place j of move's rows."""
+    return [told_as(dot(row, [line[place] for line in system.move])) for place in range(system.states)]
+
+
+def added_in(system, steps):
+    """So many lists: what one unit of each put adds in one step, in two, and so on, reckoned with fractions."""
+    lists = []
+    rows = system.put
+    for step in range(steps):
+        lists.append(rows)
+        rows = [row_as([dot(line, row) for line in system.move]) for row in rows]
+    return lists
+
+
+def left_over(system, start, goal, steps):
+    """The goal less the state to which nothing leads from the start in so many steps, reckoned with fractions."""
+    state = start
+    for step in range(steps):
+        state = row_as([dot(line, state) for line in system.move])
+    return row_as([value(mine) - value(yours) for mine, yours in zip(goal, state, strict=True)])
+
+
+def check_price(case, system, start, goal, steps, price):
+    """That the price shows that no puts lead from start to goal in just so many steps."""
+    check_row(case, price, system.states)
+    for rows in added_in(system, steps):
+        case.assertEqual([dot(row, price) for row in rows], [0] * system.ins)
+    case.assertEqual(dot(price, left_over(system, start, goal, steps)), 1)
 
 
 def check_number(case, thing):

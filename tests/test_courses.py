@@ -5,14 +5,10 @@ from helmsum.courses import course, looks_along, pulses
 from helmsum.rows import nought_row, row_plus, row_times, unit_row
 from helmsum.systems import System
 
-from helping import check_grid, row_of, some_grid, some_number, some_parts, some_row, told
+from helping import check_grid, row_of, some_grid, some_number, some_row, some_system, told
 
 GREAT = 10 ** 6
 SIZES = [(0, 0, 0), (0, 2, 3), (1, 0, 1), (1, 1, 0), (2, 1, 1), (3, 2, 4), (5, 0, 0), (8, 4, 4)]
-
-
-def some_system(chance, states, ins, outs, most):
-    return System(*some_parts(chance, states, ins, outs, most))
 
 
 class Courses(unittest.TestCase):

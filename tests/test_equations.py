@@ -6,16 +6,11 @@ from helmsum.grids import grid_times, unit_grid
 from helmsum.spans import free_places, reduced
 
 from helping import (
-    added_up, check_grid, check_row, dot, reduced_by_fractions, row_as, row_of, some_grid, some_row, told,
+    added_up, check_grid, check_row, dot, in_span, reduced_by_fractions, row_as, row_of, some_grid, some_row, told,
 )
 
 GREAT = 10 ** 6
 SIZES = [(1, 1), (1, 12), (2, 3), (3, 2), (3, 3), (6, 2), (6, 6), (6, 12), (13, 1), (13, 3), (13, 5)]
-
-
-def in_span(rows, wide, row):
-    """Whether the row is in the span, reckoned with fractions."""
-    return len(reduced_by_fractions(rows + [row], wide)) == len(reduced_by_fractions(rows, wide))
 
 
 def some_rows(chance, many, wide, most):
