@@ -1,20 +1,19 @@
 """Rows with told dots, sums of rows that come to a told one, and inverse grids."""
 
 from helmsum.grids import grid_turned, unit_grid
-from helmsum.ratios import NOUGHT, ONE, minus
+from helmsum.ratios import NOUGHT, ONE, lowest, minus
 from helmsum.rows import nought_row, unit_row
-from helmsum.spans import free_places, leading, reduced
+from helmsum.spans import free_places, leading, reduced, swept
 
 
 def solved(rows, wide, due):
     """The row that has with each of the rows the dot due, and 0 at each free place; None where there is none."""
-    joined = reduced([row + [wanted] for row, wanted in zip(rows, due)], wide + 1)
-    leads = leading(joined)
-    if wide in leads:
+    found = swept([row + [wanted] for row, wanted in zip(rows, due)], wide + 1)
+    if wide in found[1]:
         return None
     answer = nought_row(wide)
-    for lead, row in zip(leads, joined):
-        answer[lead] = row[wide]
+    for line, lead in zip(found[0], found[1]):
+        answer[lead] = lowest(line[wide], line[lead])
     return answer
 
 

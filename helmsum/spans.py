@@ -47,8 +47,8 @@ def cleared(lines, at, place, before):
     return swept
 
 
-def reduced(rows, wide):
-    """The one list of rows with the same span that is reduced: leading 1s that rise, and 0 above and below them."""
+def swept(rows, wide):
+    """(lines, leads): the reduced list, each row times some whole number so that all are whole, and where it leads."""
     lines = [tops_over(row, common_bottom(row)) for row in rows]
     leads = []
     before = 1
@@ -59,4 +59,10 @@ def reduced(rows, wide):
             lines = cleared(brought_up(lines, at, many), many, place, before)
             before = lines[many][place]
             leads.append(place)
-    return [[lowest(top, line[lead]) for top in line] for line, lead in zip(lines, leads)]
+    return (lines[:len(leads)], leads)
+
+
+def reduced(rows, wide):
+    """The one list of rows with the same span that is reduced: leading 1s that rise, and 0 above and below them."""
+    found = swept(rows, wide)
+    return [[lowest(top, line[lead]) for top in line] for line, lead in zip(found[0], found[1])]

@@ -139,6 +139,11 @@ def some_systems(chance):
     return systems
 
 
+def some_weights(chance, many, most):
+    """Weights of puts: numbers above 0."""
+    return [told_as(Fraction(chance.randint(1, most), chance.randint(1, most))) for place in range(many)]
+
+
 def nothing(system, steps):
     """So many rows of puts that are noughts."""
     return [row_of(*[0] * system.ins) for step in range(steps)]
@@ -166,6 +171,21 @@ def added_in(system, steps):
         lists.append(rows)
         rows = [row_as([dot(line, row) for line in system.move]) for row in rows]
     return lists
+
+
+def told_in(system, steps):
+    """So many lists: the rows whose dots with the start are its looks, those a step on, and so on, nothing put in."""
+    lists = []
+    rows = system.look
+    for step in range(steps):
+        lists.append(rows)
+        rows = [over_move(system, row) for row in rows]
+    return lists
+
+
+def joined(lists):
+    """What is in the lists, in one list."""
+    return [thing for each in lists for thing in each]
 
 
 def left_over(system, start, goal, steps):

@@ -8,7 +8,8 @@ from helmsum.rows import row_plus, unit_row
 from helmsum.systems import System
 
 from helping import (
-    check_grid, check_price, lists_in, nothing, plain, rest, row_of, some_grid, some_row, some_system, some_systems, told,
+    check_grid, check_price, lists_in, nothing, plain, rest, row_of, some_grid, some_row, some_system, some_systems,
+    told,
 )
 
 

@@ -6,7 +6,7 @@ from helmsum.equations import nulls
 from helmsum.fewest import soonest
 from helmsum.grids import unit_grid
 from helmsum.reach import come, reach_rows
-from helmsum.rows import row_plus, row_times, unit_row
+from helmsum.rows import row_plus, unit_row
 from helmsum.shut import is_shut, shut_off, unsteered
 from helmsum.systems import System
 
