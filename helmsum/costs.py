@@ -29,6 +29,7 @@ class Costs:
     def step_cost(self, behind):
         """The grid of what puts and a state, in one row, cost in a step and by the worth behind it."""
         system = self.system
+        # The next state is these rows, each times its put or its number of the state, added up.
         sides = whole_grid(system.put + grid_turned(system.move, system.states))
         later = [whole_on(sides[0], whole_on(behind[0], side)) for side in sides[0]]
         bottom = sides[1] * sides[1] * behind[1]
@@ -45,7 +46,8 @@ class Costs:
         lines = whole[0]
         by = 1
         for place in range(ins):
-            # The number at this place is never 0: all put weights are above 0, and no worth is below.
+            # Where puts are cleared away, what is left is the cost with the cheapest ones. The number used for it is
+            # never 0: all put weights are above 0, and no worth is below.
             lines = cleared(lines, place, place, by)
             by = lines[place][place]
         lines = [line[ins:] for line in lines]
