@@ -1,5 +1,6 @@
 """Spans: what sums of some rows of one width, each times a number, can be."""
 
+from helmsum.grids import grid_turned
 from helmsum.ratios import NOUGHT, lowest
 from helmsum.rows import common_bottom, tops_over
 
@@ -66,3 +67,8 @@ def reduced(rows, wide):
     """The one list of rows with the same span that is reduced: leading 1s that rise, and 0 above and below them."""
     found = swept(rows, wide)
     return [[lowest(top, line[lead]) for top in line] for line, lead in zip(found[0], found[1])]
+
+
+def new_places(rows, wide):
+    """The places in the list of those rows that aren't in the span of the rows ahead of them."""
+    return swept(grid_turned(rows, wide), len(rows))[1]

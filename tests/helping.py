@@ -1,8 +1,10 @@
 """What the tests share: made numbers, an outside way to reckon, and checks of what is told."""
 
 import math
+import random
 from fractions import Fraction
 
+from helmsum.courses import looks_along
 from helmsum.equations import inverse
 from helmsum.grids import grid_on, grid_times
 from helmsum.systems import System
@@ -21,6 +23,11 @@ NO_NUMBERS = [
 # The sizes (states, ins, outs) of systems, and (states, ins, steered) of those of which not all can be steered.
 SIZES = [(0, 0, 0), (0, 2, 1), (1, 0, 1), (1, 1, 0), (2, 1, 1), (3, 2, 4), (5, 1, 0), (6, 3, 1), (8, 1, 1), (8, 4, 4)]
 BOUND = [(2, 1, 1), (3, 1, 2), (4, 2, 0), (5, 1, 3), (6, 2, 5), (8, 1, 3), (8, 3, 4)]
+# The sizes of the four parts, ins and outs, of systems that part into what is steered and seen and what isn't.
+PARTED = [
+    ((1, 1, 1, 1), 1, 1), ((2, 2, 2, 2), 1, 1), ((1, 3, 1, 2), 2, 1), ((0, 2, 3, 1), 1, 2), ((2, 0, 1, 1), 1, 1),
+    ((3, 0, 0, 2), 2, 2), ((1, 2, 0, 0), 3, 1), ((0, 0, 2, 1), 2, 2), ((2, 1, 2, 0), 4, 4),
+]
 
 
 def value(number):
@@ -116,16 +123,30 @@ def some_basis(chance, many):
             return basis
 
 
-def bound_system(chance, states, ins, outs, steered, most):
-    """A System of which at most so many numbers can be steered, though no place of its state shows it."""
+# Into which of the four parts of a state (what is come to and unseen, come to and seen, neither, seen alone) each goes.
+GOES_INTO = [(0,), (0, 1), (0, 2), (0, 1, 2, 3)]
+
+
+def parted_system(chance, sizes, ins, outs, most):
+    """A System that parts into four of at most these sizes, though no place of its state shows it."""
+    kinds = [kind for kind, size in enumerate(sizes) for turn in range(size)]
+    states = len(kinds)
     move, put, look = some_parts(chance, states, ins, outs, most)
-    for place in range(steered, states):
-        move[place] = row_of(*[0] * steered) + move[place][steered:]
-        for row in put:
+    for place, kind in enumerate(kinds):
+        for at, giver in enumerate(kinds):
+            if kind not in GOES_INTO[giver]:
+                move[place][at] = (0, 1)
+        for row in (put if kind in (2, 3) else []) + (look if kind in (0, 2) else []):
             row[place] = (0, 1)
     basis = some_basis(chance, states)
-    move = grid_times(grid_times(basis, move, states), inverse(basis), states)
-    return System(move, [grid_on(basis, row) for row in put], look)
+    back = inverse(basis)
+    move = grid_times(grid_times(basis, move, states), back, states)
+    return System(move, [grid_on(basis, row) for row in put], grid_times(look, back, states))
+
+
+def bound_system(chance, states, ins, outs, steered, most):
+    """A System of which at most so many numbers can be steered, though no place of its state shows it."""
+    return parted_system(chance, (0, steered, 0, states - steered), ins, outs, most)
 
 
 def some_systems(chance):
@@ -137,6 +158,14 @@ def some_systems(chance):
     systems.append(System([row_of(1, 1), row_of(0, 1)], [row_of(0, 0)], []))
     systems.append(System([row_of(1, 1), row_of(0, 1)], [], []))
     return systems
+
+
+def all_sorts(seed):
+    """Systems of all sorts that are steered and seen in all ways: wholly, in part, not at all."""
+    chance = random.Random(seed)
+    systems = some_systems(chance)
+    systems += [system.turned() for system in systems]
+    return systems + [parted_system(chance, sizes, ins, outs, 3) for sizes, ins, outs in PARTED]
 
 
 def some_weights(chance, many, most):
@@ -151,6 +180,14 @@ def nothing(system, steps):
 
 def rest(system):
     return row_of(*[0] * system.states)
+
+
+def check_same_looks(case, one, other, chance):
+    """That both have the same looks from rest, along drawn puts and one by one."""
+    case.assertEqual([one.ins, one.outs], [other.ins, other.outs])
+    for turn in range(3):
+        puts = some_grid(chance, one.states + other.states + 2, one.ins, 9)
+        case.assertEqual(looks_along(one, rest(one), puts), looks_along(other, rest(other), puts))
 
 
 def in_span(rows, wide, row):

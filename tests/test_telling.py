@@ -11,15 +11,9 @@ from helmsum.telling import starts, told_by
 from helmsum.unseen import unseen_rows
 
 from helping import (
-    added_up, check_grid, check_row, dot, in_span, joined, nothing, plain, rest, row_of, some_grid, some_row,
-    some_system, some_systems, told, told_in,
+    added_up, all_sorts, check_grid, check_row, dot, in_span, joined, nothing, plain, rest, row_of, some_grid, some_row,
+    some_system, told, told_in,
 )
-
-
-def all_sorts(seed):
-    """Systems all of whose starts are told apart by looks, some, and none."""
-    systems = some_systems(random.Random(seed))
-    return systems + [system.turned() for system in systems]
 
 
 def first_looks(system, start, puts, steps):

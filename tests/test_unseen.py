@@ -9,8 +9,8 @@ from helmsum.systems import System
 from helmsum.unseen import unseen_rows
 
 from helping import (
-    added_up, check_grid, dot, in_span, joined, nothing, reduced_by_fractions, row_of, some_grid, some_row, some_system,
-    some_systems, told, told_in,
+    added_up, all_sorts, check_grid, dot, in_span, joined, nothing, reduced_by_fractions, row_of, some_grid, some_row,
+    some_system, told, told_in,
 )
 
 
@@ -26,10 +26,6 @@ class UnseenRows(unittest.TestCase):
         self.assertEqual(len(answer), wide - len(reduced_by_fractions(looks, wide)))
         return answer
 
-    def all_sorts(self, seed):
-        systems = some_systems(random.Random(seed))
-        return systems + [system.turned() for system in systems]
-
     def test_by_hand(self):
         system = System([row_of(1, 1, 0), row_of(0, 1, 0), row_of(0, 0, 5)], [], [row_of(2, 0, 0)])
         self.assertEqual(self.check(system, 0), unit_grid(3))
@@ -40,14 +36,14 @@ class UnseenRows(unittest.TestCase):
         self.assertEqual(self.check(skew, 4), [[(1, 1), (-1, 2)]])
 
     def test_each_count_of_steps(self):
-        for system in self.all_sorts(1):
+        for system in all_sorts(1):
             lists = [self.check(system, steps) for steps in range(14)]
             self.assertEqual(lists[0], unit_grid(system.states))
             self.assertEqual(lists[system.states:], [lists[system.states]] * (14 - system.states))
 
     def test_the_looks_of_their_sums_are_all_nought_and_of_nothing_else(self):
         chance = random.Random(2)
-        for system in self.all_sorts(3):
+        for system in all_sorts(3):
             for steps in [0, 1, 2, 5, 12]:
                 rows = unseen_rows(system, steps)
                 start = added_up(rows, some_row(chance, len(rows), 9), system.states)
@@ -59,7 +55,7 @@ class UnseenRows(unittest.TestCase):
                 self.assertEqual(in_span(rows, system.states, start), blind)
 
     def test_the_span_against_the_reach_of_the_turned_system(self):
-        for system in self.all_sorts(4):
+        for system in all_sorts(4):
             for steps in range(13):
                 rows = unseen_rows(system, steps)
                 reach = reach_rows(system.turned(), steps)
