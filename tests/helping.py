@@ -4,10 +4,13 @@ import math
 import random
 from fractions import Fraction
 
-from helmsum.courses import looks_along
+from helmsum.courses import course, looks_along
 from helmsum.equations import inverse
-from helmsum.grids import grid_on, grid_times
+from helmsum.errors import NotSteered, SumError
+from helmsum.grids import grid_on, grid_times, unit_grid
+from helmsum.reach import reach_rows
 from helmsum.systems import System
+from helmsum.unseen import unseen_rows
 
 STRANGE = [
     None, True, False, 0, 3, -1, 1.5, float("nan"), "", "text", b"ab", [], (), {}, set(), object(), int, len,
@@ -168,6 +171,16 @@ def all_sorts(seed):
     return systems + [parted_system(chance, sizes, ins, outs, 3) for sizes, ins, outs in PARTED]
 
 
+def is_steered(system):
+    """Whether all states can be come to from rest."""
+    return reach_rows(system, system.states) == unit_grid(system.states)
+
+
+def is_seen(system):
+    """Whether no start but rest looks like rest."""
+    return unseen_rows(system, system.states) == []
+
+
 def some_weights(chance, many, most):
     """Weights of puts: numbers above 0."""
     return [told_as(Fraction(chance.randint(1, most), chance.randint(1, most))) for place in range(many)]
@@ -231,6 +244,33 @@ def left_over(system, start, goal, steps):
     for step in range(steps):
         state = row_as([dot(line, state) for line in system.move])
     return row_as([value(mine) - value(yours) for mine, yours in zip(goal, state, strict=True)])
+
+
+def check_keeps(case, system, wish, start, steps):
+    """That the course from the start, with nothing put in, keeps the wish."""
+    states = course(system, start, nothing(system, system.states + steps))
+    for time in range(steps + 1):
+        due = [sum((value(weight) * value(states[time + at][place]) for at, weight in enumerate(wish)), Fraction(0))
+               for place in range(system.states)]
+        case.assertEqual(states[time + system.states], row_as(due))
+
+
+def check_not_steered(case, system, made):
+    """That the making is refused with a price as of what isn't steered, the same one each time."""
+    before = plain(system)
+    prices = []
+    for turn in range(2):
+        with case.assertRaises(NotSteered) as caught:
+            made()
+        case.assertIs(type(caught.exception).__base__, SumError)
+        price = caught.exception.price
+        prices.append(list(price))
+        check_row(case, price, system.states)
+        case.assertNotEqual(price, rest(system))
+        case.assertTrue(all(dot(price, row) == 0 for row in reach_rows(system, system.states)))
+        price.append("spoilt")
+    case.assertEqual(prices[0], prices[1])
+    case.assertEqual(plain(system), before)
 
 
 def check_price(case, system, start, goal, steps, price):

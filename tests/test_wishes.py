@@ -10,7 +10,7 @@ from helmsum.systems import System
 from helmsum.wishes import closed, own_wish
 
 from helping import (
-    BOUND, all_sorts, bound_system, check_grid, check_row, dot, fields, nothing, plain, row_as, row_of, some_grid,
+    BOUND, all_sorts, bound_system, check_grid, check_keeps, check_row, dot, fields, plain, row_as, row_of, some_grid,
     some_row, some_system, told, value, values,
 )
 
@@ -34,15 +34,6 @@ def wish_by_the_document(system):
 
 def product(one, other):
     return [[sum(mine * line[place] for mine, line in zip(row, other)) for place in range(len(other))] for row in one]
-
-
-def check_keeps(case, system, wish, start, steps):
-    """That the course from the start, with nothing put in, keeps the wish."""
-    states = course(system, start, nothing(system, system.states + steps))
-    for time in range(steps + 1):
-        due = [sum((value(weight) * value(states[time + at][place]) for at, weight in enumerate(wish)), Fraction(0))
-               for place in range(system.states)]
-        case.assertEqual(states[time + system.states], row_as(due))
 
 
 class Closed(unittest.TestCase):
